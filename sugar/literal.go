@@ -68,20 +68,16 @@ func (l literal) home(name string, around *scope) *home {
 // literal makes an entity, and returns what creates an object of it.
 func (w *work) literal(l literal) api.Node {
 	around := w.scope
-	name, keep := w.begin(around.bounds)
-	h := l.home(name, around)
+	m := w.begin(l.entityKind(), around.bounds)
+	defer w.keep(m)
+	h := l.home(m.node.Text, around)
 	w.scope = newScope(h, h.bounds)
-	provides := w.typ(l.provides)
-	var fields, values, methods []api.Node
+	m.node.Kids[3] = w.typ(l.provides)
+	var fields, methods []api.Node
 	for _, f := range l.fields {
 		fields = append(fields, w.field(f))
 	}
-	h.inValues = true
-	for _, f := range valued(l.fields) {
-		value := w.in(newScope(h, h.bounds), func() api.Node { return w.expr(f.Kid(2)) })
-		values = append(values, assign(field(f.Text), value))
-	}
-	h.inValues = false
+	values := w.literalValues(l.fields)
 	for _, f := range l.methods {
 		if f.kind == "new" {
 			fail(api.ErrForm, f.at)
@@ -89,13 +85,26 @@ func (w *work) literal(l literal) api.Node {
 		methods = append(methods, w.method(f, nil))
 	}
 	w.scope = around
-	brought := w.bring(l.captures, h.captured)
-	body := append(brought.sets, values...)
-	create := constructor(brought.params, seq(append(body, this())...))
-	all := append(brought.fields, fields...)
-	all = append(all, create)
-	keep(l.entityKind(), provides, append(all, methods...))
-	return l.creation(name, around.bounds, brought.args)
+	b := w.bring(l.captures, h.captured)
+	body := append(b.sets, values...)
+	create := constructor(b.params, seq(append(body, this())...))
+	for _, members := range [][]api.Node{b.fields, fields, {create}, methods} {
+		m.node.Kids = append(m.node.Kids, members...)
+	}
+	return l.creation(m.node.Text, around.bounds, b.args)
+}
+
+// literalValues returns the assignments of the values of a literal's fields, in which the locals that it takes are parameters.
+func (w *work) literalValues(fields []parts.Part) []api.Node {
+	h := w.scope.home
+	h.inValues = true
+	var l []api.Node
+	for _, f := range valued(fields) {
+		value := w.in(newScope(h, h.bounds), func() api.Node { return w.expr(f.Kid(2)) })
+		l = append(l, assign(field(f.Text), value))
+	}
+	h.inValues = false
+	return l
 }
 
 // brought is what a literal gets from where it stands.

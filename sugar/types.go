@@ -22,15 +22,16 @@ func (w *work) typ(n api.Node) api.Node {
 // lambdaType makes an interface of a type of functions.
 func (w *work) lambdaType(n api.Node) api.Node {
 	l := w.scope.bounds
-	name, keep := w.begin(l)
+	m := w.begin("interface", l)
+	defer w.keep(m)
 	result := w.typ(n.Kids[3])
 	params := node(syntax.Params, "")
 	for i, k := range n.Kids[4:] {
 		params.Kids = append(params.Kids, node(syntax.Param, "_a"+strconv.Itoa(i+1), w.typ(k), nothing()))
 	}
 	apply := node(syntax.Method, "apply", word("fun"), word(applyCap(n.Kids[0].Text)), node(syntax.Bounds, ""), params, result, n.Kids[2], nothing())
-	keep("interface", nothing(), []api.Node{apply})
-	return named(name, n.Kids[0].Text, n.Kids[1].Text, arguments(l))
+	m.node.Kids = append(m.node.Kids, apply)
+	return named(m.node.Text, n.Kids[0].Text, n.Kids[1].Text, arguments(l))
 }
 
 // applyCap returns the capability of the method of a function with a capability.

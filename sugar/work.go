@@ -27,9 +27,9 @@ type work struct {
 	newLocal  func() string
 	newEntity func() string
 	scope     *scope
-	made      []made // of the entity at hand
-	count     int    // of all that was made
-	copies    int    // nodes of what was rewritten for several places
+	made      []*made // of the entity at hand
+	count     int     // of all that was made
+	copies    int     // nodes of what was rewritten for several places
 	copying   bool
 	rewritten map[string]bool
 }
@@ -95,7 +95,7 @@ func (w *work) finish() []api.Node {
 	if w.over() {
 		return nil
 	}
-	slices.SortFunc(l, func(a, b made) int { return a.number - b.number })
+	slices.SortFunc(l, func(a, b *made) int { return a.number - b.number })
 	var out []api.Node
 	for _, m := range l {
 		m.node.Kids[2] = allBounds(m.bounds)
@@ -112,15 +112,17 @@ func allBounds(l []*bounds) api.Node {
 	return n
 }
 
-// begin returns the name of a new entity, and what keeps the entity when it is whole.
-func (w *work) begin(l []*bounds) (string, func(kind string, provides api.Node, members []api.Node)) {
-	name, number := w.newEntity(), w.count
+// begin returns a new entity, which is whole only when its members are there.
+func (w *work) begin(kind string, l []*bounds) *made {
+	m := &made{number: w.count, bounds: l}
+	m.node = node(syntax.Entity, w.newEntity(), word(kind), word(""), node(syntax.Bounds, ""), nothing())
 	w.count++
-	return name, func(kind string, provides api.Node, members []api.Node) {
-		n := node(syntax.Entity, name, word(kind), word(""), node(syntax.Bounds, ""), provides)
-		n.Kids = append(n.Kids, members...)
-		w.made = append(w.made, made{number, n, l})
-	}
+	return m
+}
+
+// keep takes an entity that is whole.
+func (w *work) keep(m *made) {
+	w.made = append(w.made, m)
 }
 
 func (w *work) expr(p parts.Part) api.Node {

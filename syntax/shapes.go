@@ -10,72 +10,90 @@ type shape struct {
 	least int
 }
 
-// shapes returns the table of the kinds. A group that ends in `?` may be a Nothing, too; W: stands ahead of the words of a Word
-// with blanks around them, of which - is the empty one.
+// The groups of some Words: W: stands ahead of them, with blanks around each, of which - is the empty one.
+const (
+	capWords      = "W: - iso trn ref val box tag "
+	genericWords  = "W: - iso trn ref val box tag #read #send #share #alias #any "
+	markWords     = "W: - ^ ! "
+	partialWords  = "W: - ? "
+	variableWords = "W: var let "
+)
+
+// shapes returns the table of the kinds. A group that ends in `?` may be a Nothing, too.
 func shapes() [Last + 1]shape {
-	const (
-		capability = "W: - iso trn ref val box tag "
-		any        = "W: - iso trn ref val box tag #read #send #share #alias #any "
-		mark       = "W: - ^ ! "
-		partial    = "W: - ? "
-		variable   = "W: var let "
-	)
+	table := declarationShapes()
+	for kind, s := range exprShapes() {
+		if s.name != "" {
+			table[kind] = s
+		}
+	}
+	return table
+}
+
+// declarationShapes returns the shapes of declarations, of their parts, and of types.
+func declarationShapes() [Last + 1]shape {
 	return [Last + 1]shape{
 		Module:     {name: "Module", rest: [2]string{"use", "entity"}},
 		Use:        {name: "Use", text: "package", first: []string{"e?"}},
-		Entity:     {name: "Entity", text: "name", first: []string{"W: class actor primitive trait interface type ", capability, "bounds", "t?"}, rest: [2]string{"member"}},
+		Entity:     {name: "Entity", text: "name", first: []string{"W: class actor primitive trait interface type ", capWords, "bounds", "t?"}, rest: [2]string{"member"}},
 		Word:       {name: "Word", text: "any"},
 		Nothing:    {name: "Nothing"},
 		Bounds:     {name: "Bounds", rest: [2]string{"bound"}},
 		Bound:      {name: "Bound", text: "name", first: []string{"t?"}},
-		Field:      {name: "Field", text: "name", first: []string{variable, "t", "e?"}},
-		Method:     {name: "Method", text: "name", first: []string{"W: new fun be ", capability, "bounds", "params", "t?", partial, "e?"}},
+		Field:      {name: "Field", text: "name", first: []string{variableWords, "t", "e?"}},
+		Method:     {name: "Method", text: "name", first: []string{"W: new fun be ", capWords, "bounds", "params", "t?", partialWords, "e?"}},
 		Params:     {name: "Params", rest: [2]string{"param"}},
 		Param:      {name: "Param", text: "name", first: []string{"t", "e?"}},
-		NamedType:  {name: "NamedType", text: "pointed", first: []string{any, mark}, rest: [2]string{"t"}},
+		NamedType:  {name: "NamedType", text: "pointed", first: []string{genericWords, markWords}, rest: [2]string{"t"}},
 		UnionType:  {name: "UnionType", rest: [2]string{"t"}, least: 2},
 		BothType:   {name: "BothType", rest: [2]string{"t"}, least: 2},
 		TupleType:  {name: "TupleType", rest: [2]string{"t"}, least: 2},
 		ArrowType:  {name: "ArrowType", first: []string{"t", "t"}},
 		ThisType:   {name: "ThisType"},
-		LambdaType: {name: "LambdaType", first: []string{capability, mark, partial, "t?"}, rest: [2]string{"t"}},
-		IntLit:     {name: "IntLit", text: "int"},
-		FloatLit:   {name: "FloatLit", text: "float"},
-		StringLit:  {name: "StringLit", text: "any"},
-		BoolLit:    {name: "BoolLit", text: "bool"},
-		Name:       {name: "Name", text: "name"},
-		This:       {name: "This"},
-		Seq:        {name: "Seq", rest: [2]string{"e"}, least: 2},
-		Decl:       {name: "Decl", text: "name", first: []string{variable, "t"}},
-		Assign:     {name: "Assign", first: []string{"e", "e"}},
-		Dot:        {name: "Dot", text: "name", first: []string{"e"}},
-		Tilde:      {name: "Tilde", text: "name", first: []string{"e"}},
-		Chain:      {name: "Chain", text: "name", first: []string{"e"}},
-		Call:       {name: "Call", first: []string{"e", partial}, rest: [2]string{"e", "named"}},
-		Named:      {name: "Named", text: "name", first: []string{"e"}},
-		Qualify:    {name: "Qualify", first: []string{"e"}, rest: [2]string{"t"}, least: 1},
-		Tuple:      {name: "Tuple", rest: [2]string{"e"}, least: 2},
-		Array:      {name: "Array", first: []string{"t"}, rest: [2]string{"e"}},
-		Unary:      {name: "Unary", text: "unary", first: []string{"e"}},
-		Binary:     {name: "Binary", text: "operator", first: []string{"e", "e"}},
-		As:         {name: "As", first: []string{"e", "t"}},
-		Consume:    {name: "Consume", first: []string{"e"}},
-		Recover:    {name: "Recover", first: []string{capability, "e"}},
-		If:         {name: "If", first: []string{"e", "e", "e?"}},
-		Ifdef:      {name: "Ifdef", first: []string{"e", "e", "e?"}},
-		While:      {name: "While", first: []string{"e", "e", "e?"}},
-		Repeat:     {name: "Repeat", first: []string{"e", "e"}},
-		For:        {name: "For", text: "name", first: []string{"t", "e", "e", "e?"}},
-		With:       {name: "With", text: "name", first: []string{"t", "e", "e"}},
-		Match:      {name: "Match", first: []string{"e", "e?"}, rest: [2]string{"case"}, least: 1},
+		LambdaType: {name: "LambdaType", first: []string{capWords, markWords, partialWords, "t?"}, rest: [2]string{"t"}},
 		Case:       {name: "Case", first: []string{"e", "e?", "e"}},
-		Try:        {name: "Try", first: []string{"e", "e?", "e?"}},
-		Error:      {name: "Error"},
-		Return:     {name: "Return", first: []string{"e?"}},
-		Break:      {name: "Break"},
-		Continue:   {name: "Continue"},
-		Object:     {name: "Object", first: []string{capability, "t?"}, rest: [2]string{"member"}},
-		Lambda:     {name: "Lambda", first: []string{capability, "params", "t?", partial, "e"}, rest: [2]string{"capture"}},
+		Named:      {name: "Named", text: "name", first: []string{"e"}},
 		Capture:    {name: "Capture", text: "name", first: []string{"t", "e"}},
+	}
+}
+
+// exprShapes returns the shapes of expressions.
+func exprShapes() [Last + 1]shape {
+	return [Last + 1]shape{
+		IntLit:    {name: "IntLit", text: "int"},
+		FloatLit:  {name: "FloatLit", text: "float"},
+		StringLit: {name: "StringLit", text: "any"},
+		BoolLit:   {name: "BoolLit", text: "bool"},
+		Name:      {name: "Name", text: "name"},
+		This:      {name: "This"},
+		Seq:       {name: "Seq", rest: [2]string{"e"}, least: 2},
+		Decl:      {name: "Decl", text: "name", first: []string{variableWords, "t"}},
+		Assign:    {name: "Assign", first: []string{"e", "e"}},
+		Dot:       {name: "Dot", text: "name", first: []string{"e"}},
+		Tilde:     {name: "Tilde", text: "name", first: []string{"e"}},
+		Chain:     {name: "Chain", text: "name", first: []string{"e"}},
+		Call:      {name: "Call", first: []string{"e", partialWords}, rest: [2]string{"e", "named"}},
+		Qualify:   {name: "Qualify", first: []string{"e"}, rest: [2]string{"t"}, least: 1},
+		Tuple:     {name: "Tuple", rest: [2]string{"e"}, least: 2},
+		Array:     {name: "Array", first: []string{"t"}, rest: [2]string{"e"}},
+		Unary:     {name: "Unary", text: "unary", first: []string{"e"}},
+		Binary:    {name: "Binary", text: "operator", first: []string{"e", "e"}},
+		As:        {name: "As", first: []string{"e", "t"}},
+		Consume:   {name: "Consume", first: []string{"e"}},
+		Recover:   {name: "Recover", first: []string{capWords, "e"}},
+		If:        {name: "If", first: []string{"e", "e", "e?"}},
+		Ifdef:     {name: "Ifdef", first: []string{"e", "e", "e?"}},
+		While:     {name: "While", first: []string{"e", "e", "e?"}},
+		Repeat:    {name: "Repeat", first: []string{"e", "e"}},
+		For:       {name: "For", text: "name", first: []string{"t", "e", "e", "e?"}},
+		With:      {name: "With", text: "name", first: []string{"t", "e", "e"}},
+		Match:     {name: "Match", first: []string{"e", "e?"}, rest: [2]string{"case"}, least: 1},
+		Try:       {name: "Try", first: []string{"e", "e?", "e?"}},
+		Error:     {name: "Error"},
+		Return:    {name: "Return", first: []string{"e?"}},
+		Break:     {name: "Break"},
+		Continue:  {name: "Continue"},
+		Object:    {name: "Object", first: []string{capWords, "t?"}, rest: [2]string{"member"}},
+		Lambda:    {name: "Lambda", first: []string{capWords, "params", "t?", partialWords, "e"}, rest: [2]string{"capture"}},
 	}
 }
