@@ -289,6 +289,21 @@ func TestVisible(t *testing.T) {
 	}
 }
 
+// TestDoubled is P6.1 for aliases whose types would be very large, if something named them.
+func TestDoubled(t *testing.T) {
+	text := "type A0[X] is (X, X)\ntype B0 is (U8, U8)\n"
+	for i := range 70 {
+		text += fmt.Sprintf("type A%d[X] is (A%d[X], A%d[X])\ntype B%d is (B%d | B%d)\n", i+1, i, i, i+1, i, i)
+	}
+	if p := resolve(t, tree(t, "m", text+"class C\n  var x: B3")); len(p[len(p)-1].Fields[0].Type.Args) != 2 {
+		t.Error("the type of x")
+	}
+	l := []names.Source{tree(t, "m", text+"type D is B70[U8]")}
+	if _, place, e := names.Resolve(l, nil); e != names.ErrArity || !slices.Equal(place.Path, []int{142, 3}) {
+		t.Errorf("error %d at %v", e, place)
+	}
+}
+
 const rich = "use \"p\"\nprimitive Q\n  fun f(): U8 => 1\nprimitive N[A]\n  new make()\n  fun g()\nclass D[A]\n  new create[B](a: A)\n  fun h()\ntrait T\nclass C[Z]\n  var v: U8\n  fun f[Y](x: U8, c: C[Z]) =>\n    "
 
 // body resolves a body, which is rewritten before if it has sugar, and returns what is shown of it.

@@ -102,7 +102,7 @@ func (r *resolver) program() []api.Entity {
 		case x.whole != nil:
 			p = append(p, *x.whole)
 		case x.kind == 0:
-			newWalker(r, x).aliasType(x)
+			newWalker(r, x).checkAlias(x)
 		default:
 			p = append(p, newWalker(r, x).entity(x))
 		}

@@ -84,6 +84,9 @@ func (w *walker) namedType(p parts.Part, sets bool) api.Type {
 	}
 	w.checkName(p, t, sets, arguments, x.bounds)
 	args := w.typesOf(p, 2)
+	if x.kind == 0 && w.checking {
+		return none()
+	}
 	if x.kind == 0 {
 		return substituted(w.aliasOf(x), bindings(x, args))
 	}
@@ -133,8 +136,10 @@ func (w *walker) aliasOf(x *entity) (t api.Type) {
 	return t
 }
 
-// aliasType fails if something is wrong with the declaration of an alias.
-func (w *walker) aliasType(x *entity) {
+// checkAlias fails if something is wrong with the declaration of an alias. Those that it names are not expanded for this: the
+// types of aliases that nothing else names may be larger than anything that can be made.
+func (w *walker) checkAlias(x *entity) {
+	w.checking = true
 	w.bounds(x.part.Kid(2))
 	w.typ(x.part.Kid(3))
 }

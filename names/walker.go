@@ -11,11 +11,12 @@ import (
 // walker resolves one entity. Its scope is that of the method at hand.
 type walker struct {
 	*resolver
-	module  *module
-	params  []api.Node // the Bounds in scope
-	inAlias bool
-	locals  *scope
-	counts  map[string]int // how many locals of a method have a name
+	module   *module
+	params   []api.Node // the Bounds in scope
+	inAlias  bool
+	checking bool // types are checked, but not wanted
+	locals   *scope
+	counts   map[string]int // how many locals of a method have a name
 }
 
 // scope has the locals of a body, by their names in the text.
