@@ -55,15 +55,31 @@ func (w *walker) arrow(p parts.Part) api.Type {
 	left := p.Kid(0)
 	seen := api.Type{Kind: api.TypeSelf}
 	if left.Kind != syntax.ThisType {
-		if w.inAlias {
-			w.fail(ErrKind, left)
-		}
+		w.checkLeft(left)
 		seen = w.typ(left)
 		if seen.Kind != api.TypeParam {
 			w.fail(ErrKind, left)
 		}
 	}
 	return api.Type{Kind: api.TypeArrow, Args: []api.Type{seen, w.typ(p.Kid(1))}}
+}
+
+// checkLeft fails if a type may not stand on the left of an arrow whatever its arguments are. An alias may become a type parameter.
+func (w *walker) checkLeft(p parts.Part) {
+	if p.Kind != syntax.NamedType {
+		w.fail(ErrKind, p)
+	}
+	isParam, isAlias := w.isParam(p.Text), false
+	if !isParam {
+		x := w.visible(w.module, p.Text)
+		if x == nil {
+			w.fail(api.ErrScope, p)
+		}
+		isAlias = x.kind == 0
+	}
+	if w.inAlias || !isParam && !isAlias {
+		w.fail(ErrKind, p)
+	}
 }
 
 // namedType resolves a name with its type arguments; sets says whether one of the sets of capabilities may stand there.

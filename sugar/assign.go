@@ -25,7 +25,7 @@ func (w *work) assign(p parts.Part) api.Node {
 	return assign(target, w.expr(p.Kid(1)))
 }
 
-// update makes a call of an assignment to a call.
+// update makes a call of an assignment to a call. A `?` behind that call is not one of the update.
 func (w *work) update(p, left parts.Part) api.Node {
 	f := left.Kid(0)
 	if _, known := w.knownMethod(f); known {
@@ -40,7 +40,7 @@ func (w *work) update(p, left parts.Part) api.Node {
 		args = append(args, w.expr(k))
 	}
 	value := w.expr(p.Kid(1))
-	return called(dot(target, "update"), left.Kids[1].Text, append(args, value))
+	return call(target, "update", append(args, value)...)
 }
 
 // declares reports whether all parts of a Tuple are Decls, or such Tuples.

@@ -81,12 +81,13 @@ func (w *work) decl(p parts.Part) api.Node {
 	return n
 }
 
-// qualify makes a method of a lower name that is nothing else.
+// qualify makes a method of a lower name that is nothing else, if the name itself has the type arguments.
 func (w *work) qualify(p parts.Part) api.Node {
-	e := w.expr(p.Kid(0))
-	if e.Kind == syntax.Name && !parts.IsUpper(e.Text) {
-		if meaning, _ := w.scope.find(e.Text); meaning == unknown {
-			e = field(e.Text)
+	f := p.Kid(0)
+	e := w.expr(f)
+	if f.Kind == syntax.Name && !parts.IsUpper(f.Text) {
+		if meaning, _ := w.scope.find(f.Text); meaning == unknown {
+			e = field(f.Text)
 		}
 	}
 	return node(syntax.Qualify, "", append([]api.Node{e}, w.types(p.Kids[1:])...)...)
