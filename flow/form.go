@@ -1,58 +1,19 @@
 package flow
 
 import (
-	"iter"
-
 	"hackamore/api"
+	"hackamore/exprs"
 )
-
-// isNone reports whether an expression is the zero one.
-func isNone(x api.Expr) bool {
-	return x.Op == 0 && x.Text == "" && len(x.Types) == 0 && len(x.Kids) == 0
-}
-
-// nodes hands on the nodes of an expression in the order of the walk.
-func nodes(x api.Expr) iter.Seq[api.Expr] {
-	return func(yield func(api.Expr) bool) {
-		var walk func(x api.Expr) bool
-		walk = func(x api.Expr) bool {
-			if !yield(x) {
-				return false
-			}
-			for _, k := range x.Kids {
-				if !walk(k) {
-					return false
-				}
-			}
-			return true
-		}
-		walk(x)
-	}
-}
 
 // check returns the error of an expression.
 func check(x api.Expr) api.Errno {
-	if left := api.MaxNodes; !isSmall(x, &left, api.MaxTree) {
+	if !exprs.IsSmall(x) {
 		return api.ErrSize
 	}
 	if x.Op == api.OpCase || !isFormed(x) {
 		return api.ErrForm
 	}
 	return api.OK
-}
-
-// isSmall reports whether an expression has at most left nodes, which it takes off, and at most a depth.
-func isSmall(x api.Expr, left *int, depth int) bool {
-	if *left == 0 || depth == 0 {
-		return false
-	}
-	*left--
-	for _, k := range x.Kids {
-		if !isSmall(k, left, depth-1) {
-			return false
-		}
-	}
-	return true
 }
 
 // many stands for any number of Kids.
@@ -91,7 +52,7 @@ func isFormed(x api.Expr) bool {
 	for i, k := range x.Kids {
 		isCase := x.Op == api.OpMatch && i > 0
 		switch {
-		case isNone(k):
+		case exprs.IsNone(k):
 			if !mayLack(x.Op, i) {
 				return false
 			}

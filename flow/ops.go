@@ -1,6 +1,9 @@
 package flow
 
-import "hackamore/api"
+import (
+	"hackamore/api"
+	"hackamore/exprs"
+)
 
 func (w *walker) local(x api.Expr, _ place) { w.needs(ErrUnset, w.locals[x.Text]) }
 
@@ -179,7 +182,7 @@ func (w *walker) try(x api.Expr, p place) {
 	left := w.exits
 	w.exits = outer
 	behind := func(s *state) *state { return s }
-	if !isNone(x.Kids[2]) {
+	if !exprs.IsNone(x.Kids[2]) {
 		last := p.branch()
 		last.used = false
 		part := w.apart(func() { w.kid(x, 2, last) })

@@ -516,6 +516,10 @@ func TestMore(t *testing.T) {
 		if len(codes(r, flow.ErrLoop)) == 0 {
 			inLoop(t, x)
 		}
+		fewer := checked(t, kind, partial, x, l[:len(l)/2])
+		if fewer.Errors && !r.Errors || len(codes(fewer, flow.ErrDead)) < len(codes(r, flow.ErrDead)) {
+			t.Fatalf("%s: %s, with fewer partial calls %s", show(x), showReport(r), showReport(fewer))
+		}
 		valued += tried(t, x)
 	}
 	if valued < 100 {

@@ -6,6 +6,7 @@ import (
 	"strings"
 
 	"hackamore/api"
+	"hackamore/exprs"
 )
 
 // exits are the states with which a part is left otherwise than by its end.
@@ -85,7 +86,7 @@ func newWalker(body api.Expr, given []string, partial [][]int) *walker {
 		w.declare(name)
 		w.once[name] = true
 	}
-	for x := range nodes(body) {
+	for x := range exprs.Nodes(body) {
 		switch x.Op {
 		case api.OpLocal, api.OpConsume, api.OpVar, api.OpAssign:
 			w.declare(x.Text)
@@ -241,7 +242,7 @@ func (w *walker) node(x api.Expr, p place) {
 
 // kid looks at a Kid, if it is there and reached.
 func (w *walker) kid(x api.Expr, i int, p place) {
-	if w.now == nil || isNone(x.Kids[i]) {
+	if w.now == nil || exprs.IsNone(x.Kids[i]) {
 		return
 	}
 	w.path = append(w.path, i)

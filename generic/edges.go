@@ -6,6 +6,7 @@ import (
 	"slices"
 
 	"hackamore/api"
+	"hackamore/exprs"
 )
 
 // Edge says that the type parameter From of an entity or a method becomes a part of an argument of the parameter To; Grows, if the argument is more than the parameter itself.
@@ -25,7 +26,7 @@ func Edges(p []api.Entity) ([]Edge, api.Errno) {
 			f.within(at, t)
 		}
 		for i, m := range x.Methods {
-			for e := range expressions(m.Body) {
+			for e := range exprs.Nodes(m.Body) {
 				if c, ok := callOf(e); ok {
 					f.call(place{x, &x.Methods[i]}, c)
 				}

@@ -4,6 +4,7 @@ import (
 	"iter"
 
 	"hackamore/api"
+	"hackamore/exprs"
 )
 
 // place is where a type is mentioned: among the types of an entity itself, or of one of its methods.
@@ -49,7 +50,7 @@ func inMethod(m api.Method) iter.Seq[api.Type] {
 		if !yield(m.Result) {
 			return
 		}
-		for x := range expressions(m.Body) {
+		for x := range exprs.Nodes(m.Body) {
 			for _, t := range x.Types {
 				if !yield(t) {
 					return
@@ -57,26 +58,6 @@ func inMethod(m api.Method) iter.Seq[api.Type] {
 			}
 		}
 	}
-}
-
-// expressions hands on an expression and all in it.
-func expressions(x api.Expr) iter.Seq[api.Expr] {
-	return func(yield func(api.Expr) bool) {
-		walk(x, yield)
-	}
-}
-
-// walk hands on expressions until it is told to stop.
-func walk(x api.Expr, yield func(api.Expr) bool) bool {
-	if !yield(x) {
-		return false
-	}
-	for _, k := range x.Kids {
-		if !walk(k, yield) {
-			return false
-		}
-	}
-	return true
 }
 
 // mentioned hands on the types of an entity, with their places.

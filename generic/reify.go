@@ -6,6 +6,7 @@ import (
 	"strings"
 
 	"hackamore/api"
+	"hackamore/exprs"
 	"hackamore/subtype"
 )
 
@@ -169,7 +170,7 @@ func (r *reifier) method(m api.Method) {
 	for t := range inMethod(m) {
 		r.mention(t)
 	}
-	for x := range expressions(m.Body) {
+	for x := range exprs.Nodes(m.Body) {
 		c, ok := callOf(x)
 		if !ok {
 			continue

@@ -255,7 +255,7 @@ func TestReifyErrors(t *testing.T) {
 	}
 }
 
-// leaves tells what P10.5 says of a program that was reified.
+// closed asks of a program that was reified what P10.5 says.
 func closed(t *testing.T, p []api.Entity) {
 	t.Helper()
 	seen := map[string]bool{}

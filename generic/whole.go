@@ -4,6 +4,7 @@ import (
 	"slices"
 
 	"hackamore/api"
+	"hackamore/exprs"
 	"hackamore/subtype"
 	"hackamore/types"
 )
@@ -32,45 +33,24 @@ func Find(p []api.Entity, entity, name string) (api.Method, string, api.Errno) {
 func cloneMethod(m api.Method) api.Method {
 	m.Bounds, m.Params = slices.Clone(m.Bounds), slices.Clone(m.Params)
 	for i, b := range m.Bounds {
-		m.Bounds[i].Type = cloneType(b.Type)
+		m.Bounds[i].Type = exprs.CloneType(b.Type)
 	}
 	for i, p := range m.Params {
-		m.Params[i].Type = cloneType(p.Type)
+		m.Params[i].Type = exprs.CloneType(p.Type)
 	}
-	m.Result, m.Body = cloneType(m.Result), cloneExpr(m.Body)
+	m.Result, m.Body = exprs.CloneType(m.Result), exprs.Clone(m.Body)
 	return m
-}
-
-func cloneType(t api.Type) api.Type {
-	t.Args = cloneTypes(t.Args)
-	return t
-}
-
-func cloneTypes(l []api.Type) []api.Type {
-	l = slices.Clone(l)
-	for i, t := range l {
-		l[i] = cloneType(t)
-	}
-	return l
-}
-
-func cloneExpr(x api.Expr) api.Expr {
-	x.Types, x.Kids = cloneTypes(x.Types), slices.Clone(x.Kids)
-	for i, k := range x.Kids {
-		x.Kids[i] = cloneExpr(k)
-	}
-	return x
 }
 
 // cloneEntity returns an entity that shares no memory with this one.
 func cloneEntity(x api.Entity) api.Entity {
-	x.Bounds, x.Provides = slices.Clone(x.Bounds), cloneTypes(x.Provides)
+	x.Bounds, x.Provides = slices.Clone(x.Bounds), exprs.CloneTypes(x.Provides)
 	for i, b := range x.Bounds {
-		x.Bounds[i].Type = cloneType(b.Type)
+		x.Bounds[i].Type = exprs.CloneType(b.Type)
 	}
 	x.Fields, x.Methods = slices.Clone(x.Fields), slices.Clone(x.Methods)
 	for i, f := range x.Fields {
-		x.Fields[i].Type = cloneType(f.Type)
+		x.Fields[i].Type = exprs.CloneType(f.Type)
 	}
 	for i, m := range x.Methods {
 		x.Methods[i] = cloneMethod(m)
@@ -78,10 +58,7 @@ func cloneEntity(x api.Entity) api.Entity {
 	return x
 }
 
-func hasBody(m api.Method) bool {
-	x := m.Body
-	return x.Op != 0 || x.Text != "" || len(x.Types) > 0 || len(x.Kids) > 0
-}
+func hasBody(m api.Method) bool { return !exprs.IsNone(m.Body) }
 
 // isCalled reports whether a method is a function or a behaviour.
 func isCalled(m api.Method) bool { return m.Kind == api.Fun || m.Kind == api.Be }

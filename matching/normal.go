@@ -97,6 +97,40 @@ func (u *universe) ordered(r relation) []group {
 	return out
 }
 
+// firstOf returns the first value that all of some patterns take, and none of others, if there is one.
+func (u *universe) firstOf(needed, without []Pattern) (Value, bool) {
+	if l := leaves(needed, without).list(); len(l) > 0 {
+		return Value{Leaf: l[0]}, true
+	}
+	for arity := 2; arity <= maxKids; arity++ {
+		s, rows := sides{needed: len(needed)}, u.rowsOf(arity, needed, without)
+		if u.hasSome(s, arity, rows) {
+			return Value{Kids: u.firstMeant(s, arity, rows)}, true
+		}
+	}
+	return Value{}, false
+}
+
+// firstMeant returns the elements of the first tuple that rows mean. The group that has the least leaf is the first one: where
+// there is a leaf, no others need be known.
+func (u *universe) firstMeant(s sides, arity int, rows []row) []Value {
+	if arity == 1 {
+		return []Value{u.first(u.meant(s, rows))}
+	}
+	least := api.MaxUnits
+	var behind []row
+	for first, rest := range u.atoms(s, rows) {
+		l := u.sets[first].leaves.list()
+		if len(l) > 0 && l[0] < least && u.hasSome(s, arity-1, rest) {
+			least, behind = l[0], rest
+		}
+	}
+	if behind == nil {
+		return u.firstTuple(arity, u.built(s, arity, rows))
+	}
+	return append([]Value{{Leaf: least}}, u.firstMeant(s, arity-1, behind)...)
+}
+
 // first returns the first value of a set that is not empty.
 func (u *universe) first(s set) Value {
 	v := u.sets[s]

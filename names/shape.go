@@ -2,6 +2,7 @@ package names
 
 import (
 	"hackamore/api"
+	"hackamore/exprs"
 )
 
 // Check returns the error of a program: of its form alone.
@@ -31,10 +32,10 @@ func checkEntity(x api.Entity) api.Errno {
 	}
 	shapes := exprShapes()
 	for _, m := range x.Methods {
-		if left := api.MaxNodes; !small(m.Body, &left, api.MaxTree) {
+		if !exprs.IsSmall(m.Body) {
 			return api.ErrSize
 		}
-		if !isMissing(m.Body) && (m.Body.Op == api.OpCase || !isExpr(m.Body, &shapes)) {
+		if !exprs.IsNone(m.Body) && (m.Body.Op == api.OpCase || !isExpr(m.Body, &shapes)) {
 			return api.ErrForm
 		}
 	}
@@ -125,25 +126,6 @@ func isType(t api.Type, bound bool) bool {
 	return false
 }
 
-// small reports whether a body has at most left nodes, which it takes off, and at most a depth. It stops as soon as it has not.
-func small(x api.Expr, left *int, depth int) bool {
-	if *left == 0 || depth == 0 {
-		return false
-	}
-	*left--
-	for _, k := range x.Kids {
-		if !small(k, left, depth-1) {
-			return false
-		}
-	}
-	return true
-}
-
-// isMissing reports whether an expression is none.
-func isMissing(x api.Expr) bool {
-	return x.Op == 0 && x.Text == "" && len(x.Types) == 0 && len(x.Kids) == 0
-}
-
 // exprShape is what an operation has: Texts (none, one that may be empty, or one that may not), and how many Types and Kids.
 type exprShape struct {
 	text                 int
@@ -206,7 +188,7 @@ func isExpr(x api.Expr, shapes *[api.OpLast + 1]exprShape) bool {
 	}
 	for i, k := range x.Kids {
 		guard := x.Op == api.OpCase && i == 0
-		if guard && isMissing(k) {
+		if guard && exprs.IsNone(k) {
 			continue
 		}
 		isCase := x.Op == api.OpMatch && i > 0

@@ -5,6 +5,7 @@ import (
 	"slices"
 
 	"hackamore/api"
+	"hackamore/exprs"
 	"hackamore/types"
 )
 
@@ -202,7 +203,7 @@ func Supers(p []api.Entity, t api.Type) ([]api.Type, api.Errno) {
 	}
 	var l []api.Type
 	for _, s := range g.supers(t) {
-		l = append(l, clone(s))
+		l = append(l, exprs.CloneType(s))
 	}
 	return l, api.OK
 }

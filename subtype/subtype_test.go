@@ -628,6 +628,49 @@ func spoilt(t *testing.T, m *draw.Maker, p []api.Entity, d subtype.Proof) {
 	}
 }
 
+// TestMoreMethods is P9.6: with a method more an interface asks for more, and it is one of all methods.
+func TestMoreMethods(t *testing.T) {
+	fits, fails := 0, 0
+	for seed := range uint64(300) {
+		m := draw.New(seed)
+		p := m.Program(draw.Shape{Entities: 5})
+		i := slices.IndexFunc(p, func(x api.Entity) bool { return x.Kind == api.Interface && len(x.Methods) > 1 && x.Name != "Any" })
+		if i < 0 {
+			continue
+		}
+		whole := p[i].Methods
+		p[i].Provides = nil
+		b := types.Named(p[i].Name, tag, nil)
+		for j, x := range p {
+			if j == i || len(x.Provides) > 0 {
+				continue
+			}
+			a := types.Named(x.Name, ref, nil)
+			if j%2 == 0 {
+				p[j].Methods = append(slices.Clone(whole), x.Methods...)
+			}
+			all := true
+			for k := range whole {
+				p[i].Methods = whole[k : k+1]
+				all = subtype.Is(p, a, b) && all
+			}
+			p[i].Methods = whole
+			is := subtype.Is(p, a, b)
+			if is && !all {
+				t.Fatalf("%s is a %s, but not by each method", x.Name, p[i].Name)
+			}
+			if is {
+				fits++
+			} else {
+				fails++
+			}
+		}
+	}
+	if fits < 50 || fails < 100 {
+		t.Errorf("%d fit, %d do not", fits, fails)
+	}
+}
+
 // TestTransitive is P9.2 for names without structural interfaces.
 func TestTransitive(t *testing.T) {
 	for seed := range uint64(60) {

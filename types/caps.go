@@ -5,6 +5,7 @@ import (
 
 	"hackamore/api"
 	"hackamore/cap"
+	"hackamore/exprs"
 )
 
 // counted returns what counts of the capability and the mark of a part.
@@ -55,7 +56,7 @@ func With(t api.Type, c int) (api.Type, api.Errno) {
 // withCap returns a type whose parts have a capability, and which has no arrows.
 func withCap(t api.Type, c int) api.Type {
 	part := func(t api.Type) (api.Type, api.Errno) {
-		t = clone(t)
+		t = exprs.CloneType(t)
 		t.Cap, t.Mark = c, api.Plain
 		return t, api.OK
 	}
@@ -67,7 +68,7 @@ func withCap(t api.Type, c int) api.Type {
 // marked returns a type whose parts have what a function of layer 7 makes of their capabilities and marks.
 func marked(t api.Type, of func(c, mark int) (int, int)) api.Type {
 	part := func(t api.Type) (api.Type, api.Errno) {
-		t = clone(t)
+		t = exprs.CloneType(t)
 		if t.Cap == api.CapNone {
 			_, t.Mark = of(api.Iso, t.Mark)
 		} else {
@@ -76,7 +77,7 @@ func marked(t api.Type, of func(c, mark int) (int, int)) api.Type {
 		return t, api.OK
 	}
 	arrow := func(t api.Type) (api.Type, api.Errno) {
-		t.Args = []api.Type{clone(t.Args[0]), marked(t.Args[1], of)}
+		t.Args = []api.Type{exprs.CloneType(t.Args[0]), marked(t.Args[1], of)}
 		return t, api.OK
 	}
 	t, _ = changed(t, part, arrow)
@@ -109,7 +110,7 @@ func judged(t api.Type, of judge) (api.Type, api.Errno) {
 		if t.Cap == api.CapNone {
 			return api.Type{}, api.ErrForm
 		}
-		t = clone(t)
+		t = exprs.CloneType(t)
 		var e api.Errno
 		t.Cap, t.Mark, e = of(counted(t))
 		return t, e

@@ -6,6 +6,7 @@ import (
 
 	"hackamore/api"
 	"hackamore/cap"
+	"hackamore/exprs"
 )
 
 // Normal returns the normal form of a type.
@@ -13,7 +14,7 @@ func Normal(t api.Type) (api.Type, api.Errno) {
 	if e := Check(t); e != api.OK {
 		return api.Type{}, e
 	}
-	return whole(normal(clone(t)))
+	return whole(normal(exprs.CloneType(t)))
 }
 
 // Union returns the normal form of the union of types.
@@ -24,7 +25,7 @@ func Union(l []api.Type) (api.Type, api.Errno) {
 	if e := checkAll(l); e != api.OK {
 		return api.Type{}, e
 	}
-	return whole(normal(api.Type{Kind: api.TypeUnion, Args: cloneAll(l)}))
+	return whole(normal(api.Type{Kind: api.TypeUnion, Args: exprs.CloneTypes(l)}))
 }
 
 // normal returns the normal form of a type, which it may change.

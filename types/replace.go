@@ -6,6 +6,7 @@ import (
 
 	"hackamore/api"
 	"hackamore/cap"
+	"hackamore/exprs"
 )
 
 // Subst returns a type in which type parameters are replaced.
@@ -34,7 +35,7 @@ func (b binding) of(t api.Type) (api.Type, bool) {
 	if t.Kind != api.TypeParam || i < 0 {
 		return api.Type{}, false
 	}
-	arg := clone(b.args[i])
+	arg := exprs.CloneType(b.args[i])
 	if t.Cap != api.CapNone {
 		arg = withCap(arg, t.Cap)
 	}
@@ -80,7 +81,7 @@ func (b binding) in(t api.Type) (api.Type, api.Errno) {
 func (b binding) origin(t api.Type) (api.Type, api.Errno) {
 	arg, ok := b.of(t)
 	if !ok {
-		return clone(t), api.OK
+		return exprs.CloneType(t), api.OK
 	}
 	switch arg.Kind {
 	case api.TypeName, api.TypeSelf:
@@ -101,7 +102,7 @@ func Self(t api.Type, c, mark int) (api.Type, api.Errno) {
 	case !isMark(mark):
 		return api.Type{}, api.ErrArg
 	}
-	return whole(received(clone(t), c, mark))
+	return whole(received(exprs.CloneType(t), c, mark))
 }
 
 // received returns a type, which it may change, with a capability for the receiver.
@@ -127,7 +128,7 @@ func Method(m api.Method, params []string, args []api.Type) (api.Method, api.Err
 	if len(params) != len(args) {
 		return api.Method{}, api.ErrArg
 	}
-	if left := api.MaxNodes; !isSmallBody(m.Body, &left, api.MaxTree) {
+	if !exprs.IsSmall(m.Body) {
 		return api.Method{}, api.ErrSize
 	}
 	b := &bodies{binding: binding{params, args}, wrong: checkAll(args)}
@@ -150,20 +151,6 @@ func Method(m api.Method, params []string, args []api.Type) (api.Method, api.Err
 	return m, api.OK
 }
 
-// isSmallBody reports whether a body has at most left expressions, which it takes off, and at most a depth.
-func isSmallBody(x api.Expr, left *int, depth int) bool {
-	if *left == 0 || depth == 0 {
-		return false
-	}
-	*left--
-	for _, k := range x.Kids {
-		if !isSmallBody(k, left, depth-1) {
-			return false
-		}
-	}
-	return true
-}
-
 // bodies replaces type parameters in all types of a method, up to the first error. What is wrong with the arguments is told
 // behind what is wrong with the first type.
 type bodies struct {
@@ -174,7 +161,7 @@ type bodies struct {
 
 func (b *bodies) typ(t api.Type) api.Type {
 	if b.e != api.OK || t.Kind == 0 {
-		return clone(t)
+		return exprs.CloneType(t)
 	}
 	b.e = cmp.Or(Check(t), b.wrong)
 	if b.e != api.OK {
