@@ -15,6 +15,9 @@ func isEqual(m, n api.Method) bool {
 		slices.EqualFunc(m.Params, n.Params, func(a, b api.Param) bool { return a.Name == b.Name && types.Equal(a.Type, b.Type) })
 }
 
+// isZero reports whether a type is the zero Type; one of the Kind 0 with another field is no type at all.
+func isZero(t api.Type) bool { return types.Equal(t, api.Type{}) }
+
 // fitsReceiver reports whether a method may be called, or what it makes be held, where another one is wanted.
 func fitsReceiver(m, n api.Method) bool {
 	switch m.Kind {
@@ -88,8 +91,8 @@ func compared(m, n api.Method, bare bool) ([]pair, bool) {
 		}
 		l = append(l, pair{x[1], x[0]})
 	}
-	if m.Result.Kind == 0 || n.Result.Kind == 0 {
-		return l, m.Result.Kind == n.Result.Kind
+	if none, wanted := isZero(m.Result), isZero(n.Result); none || wanted {
+		return l, none == wanted
 	}
 	x, ok := both(m.Result, n.Result)
 	return append(l, x), ok

@@ -331,6 +331,9 @@ func TestMethod(t *testing.T) {
 	kind := func(kind, c int) api.Method {
 		return with(f, func(m *api.Method) { m.Kind, m.Cap = kind, c })
 	}
+	gives := func(result api.Type) api.Method {
+		return with(fun(t, "f", box, "", ""), func(m *api.Method) { m.Result = result })
+	}
 	bounds := func(m api.Method, s string) api.Method {
 		return with(m, func(m *api.Method) {
 			for _, part := range strings.Split(s, "; ") {
@@ -358,6 +361,11 @@ func TestMethod(t *testing.T) {
 		{fun(t, "f", box, "", "T ref"), fun(t, "f", box, "", "C ref"), false},
 		{fun(t, "f", box, "", "T ref"), fun(t, "f", box, "", ""), false},
 		{fun(t, "f", box, "", ""), fun(t, "f", box, "", "T ref"), false},
+		{fun(t, "f", box, "", ""), fun(t, "f", box, "", ""), true},
+		{fun(t, "f", box, "", ""), gives(api.Type{Cap: iso}), false}, {gives(api.Type{Cap: iso}), fun(t, "f", box, "", ""), false}, {gives(api.Type{Cap: iso}), gives(api.Type{Cap: iso}), false},
+		{fun(t, "f", box, "", ""), gives(api.Type{Mark: api.Ephemeral}), false}, {gives(api.Type{Name: "T", Cap: ref}), fun(t, "f", box, "", ""), false},
+		{gives(api.Type{Args: []api.Type{{}}}), fun(t, "f", box, "", ""), false}, {gives(api.Type{Args: []api.Type{}}), fun(t, "f", box, "", ""), true},
+		{gives(api.Type{Cap: iso}), fun(t, "f", box, "", "T ref"), false}, {fun(t, "f", box, "", "T ref"), gives(api.Type{Cap: iso}), false},
 		{fun(t, "f", box, "", "(this -> C ref)"), fun(t, "f", box, "", "C box"), true},
 		{fun(t, "f", box, "", "(this -> C ref)"), fun(t, "f", ref, "", "C ref"), false},
 		{fun(t, "f", box, "", "C box"), fun(t, "f", box, "", "(this -> C ref)"), true},
