@@ -75,3 +75,27 @@ func CloneTypes(l []api.Type) []api.Type {
 	}
 	return l
 }
+
+// Walk hands on an expression and all in it, in the order of the walk, with their paths. What has the Op 0 is none, and has no
+// Kids. A path holds only until the next one is handed on.
+func Walk(x api.Expr) iter.Seq2[[]int, api.Expr] {
+	return func(yield func([]int, api.Expr) bool) {
+		walkPaths(make([]int, 0, api.MaxTree), x, yield)
+	}
+}
+
+// walkPaths hands on expressions with their paths until it is told to stop.
+func walkPaths(path []int, x api.Expr, yield func([]int, api.Expr) bool) bool {
+	if !yield(path, x) {
+		return false
+	}
+	if x.Op == 0 {
+		return true
+	}
+	for i, k := range x.Kids {
+		if !walkPaths(append(path, i), k, yield) {
+			return false
+		}
+	}
+	return true
+}
