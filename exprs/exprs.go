@@ -1,4 +1,4 @@
-// Package exprs has what layers share that measure, walk and copy expressions and their types.
+// Package exprs has what layers share that measure, walk and copy expressions, their types, and the entities around them.
 package exprs
 
 import (

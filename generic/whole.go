@@ -26,36 +26,7 @@ func Find(p []api.Entity, entity, name string) (api.Method, string, api.Errno) {
 	if e != api.OK {
 		return api.Method{}, "", e
 	}
-	return cloneMethod(m), from, api.OK
-}
-
-// cloneMethod returns a method that shares no memory with this one.
-func cloneMethod(m api.Method) api.Method {
-	m.Bounds, m.Params = slices.Clone(m.Bounds), slices.Clone(m.Params)
-	for i, b := range m.Bounds {
-		m.Bounds[i].Type = exprs.CloneType(b.Type)
-	}
-	for i, p := range m.Params {
-		m.Params[i].Type = exprs.CloneType(p.Type)
-	}
-	m.Result, m.Body = exprs.CloneType(m.Result), exprs.Clone(m.Body)
-	return m
-}
-
-// cloneEntity returns an entity that shares no memory with this one.
-func cloneEntity(x api.Entity) api.Entity {
-	x.Bounds, x.Provides = slices.Clone(x.Bounds), exprs.CloneTypes(x.Provides)
-	for i, b := range x.Bounds {
-		x.Bounds[i].Type = exprs.CloneType(b.Type)
-	}
-	x.Fields, x.Methods = slices.Clone(x.Fields), slices.Clone(x.Methods)
-	for i, f := range x.Fields {
-		x.Fields[i].Type = exprs.CloneType(f.Type)
-	}
-	for i, m := range x.Methods {
-		x.Methods[i] = cloneMethod(m)
-	}
-	return x
+	return exprs.CloneMethod(m), from, api.OK
 }
 
 func hasBody(m api.Method) bool { return !exprs.IsNone(m.Body) }
@@ -158,7 +129,7 @@ func Whole(p []api.Entity) ([]api.Entity, api.Errno) {
 			whole.Methods = l
 		}
 		seen[x.Name] = true
-		out = append(out, cloneEntity(whole))
+		out = append(out, exprs.CloneEntity(whole))
 	}
 	return out, api.OK
 }
