@@ -46,7 +46,7 @@ func TestExamples(t *testing.T) {
 
 // TestValues is P18.1 for operations that have no more than the values of their Kids.
 func TestValues(t *testing.T) {
-	long := strings.Repeat("1", 401)
+	long, zeros := strings.Repeat("1", 401), strings.Repeat("0", 100)
 	checkEval(t, []evaluated{
 		{"lit.abc{String val}", "value #5, 1", ""},
 		{"lit.true{Bool val}", "value true, 1", ""}, {"lit.false{Bool ref}", "value false, 1", ""}, {"lit.True{Bool val}", "wrong 2, 1", ""}, {`lit.""{Bool val}`, "wrong 2, 1", ""},
@@ -67,7 +67,8 @@ func TestValues(t *testing.T) {
 		{"error", "error, 1", ""}, {"break", "break, 1", ""}, {"continue", "continue, 1", ""}, {"return", "return None, 1", ""}, {"(return local.x)", "return 5, 2", ""}, {"(return error)", "error, 2", ""}, {"(return (return lit.1{U32 val}))", "return 1, 3", ""},
 		{"(recover{this} local.c)", "value #2, 2", ""}, {"(recover{this} (return local.c))", "return #2, 3", ""},
 		{"(tuple local.x local.c)", "value (5, #2), 3", ""}, {"(tuple local.x local.c local.x)", "value (5, #2, 5), 4", ""}, {"(tuple local.x error local.z)", "error, 3", ""},
-		{"(item.0 local.p)", "value 1, 2", ""}, {"(item.1 local.p)", "value true, 2", ""}, {"(item.2 local.p)", "wrong 3, 2", ""}, {"(item.01 local.p)", "wrong 3, 2", ""}, {`(item."+1" local.p)`, "wrong 3, 2", ""},
+		{"(item.0 local.p)", "value 1, 2", ""}, {"(item.1 local.p)", "value true, 2", ""}, {"(item.2 local.p)", "wrong 3, 2", ""}, {"(item.01 local.p)", "value true, 2", ""}, {"(item.00 local.p)", "value 1, 2", ""}, {"(item." + zeros + "1 local.p)", "value true, 2", ""}, {"(item." + zeros + "2 local.p)", "wrong 3, 2", ""},
+		{`(item."+1" local.p)`, "wrong 3, 2", ""}, {`(item."-0" local.p)`, "wrong 3, 2", ""}, {`(item."1_0" local.p)`, "wrong 3, 2", ""}, {`(item."0_1" local.p)`, "wrong 3, 2", ""}, {`(item."0x1" local.p)`, "wrong 3, 2", ""}, {`(item." 1" local.p)`, "wrong 3, 2", ""}, {`(item."1 " local.p)`, "wrong 3, 2", ""}, {"(item.18446744073709551617 local.p)", "wrong 3, 2", ""},
 		{`(item."" local.p)`, "wrong 3, 2", ""}, {`(item."-1" local.p)`, "wrong 3, 2", ""}, {"(item.99999999999999999999 local.p)", "wrong 3, 2", ""}, {"(item.0 local.x)", "wrong 11, 2", ""}, {"(item.x local.x)", "wrong 11, 2", ""}, {"(item.0 error)", "error, 2", ""},
 		{"(is local.x lit.5{U32 val})", "value true, 3", ""}, {"(is local.x lit.6{U32 val})", "value false, 3", ""}, {"(is this local.c)", "value true, 3", ""}, {"(is lit.a{String val} lit.a{String val})", "value false, 3", ""}, {"(is local.p local.p)", "value true, 3", ""}, {"(is error local.z)", "error, 2", ""},
 		{"unit{main.P val}", "value main.P, 1", ""}, {"unit{main.X ref}", "value main.X, 1", ""},
