@@ -129,17 +129,22 @@ func TestSizes(t *testing.T) {
 		}
 		return x
 	}
-	long := make([]meaning.Local, 1)
+	l := []meaning.Local{{Name: "x", Value: number(1)}, {Name: "y", Value: number(2)}, {Name: "x", Value: number(3)}}
+	behind := told([]meaning.Local{{Name: "y", Value: number(2)}, {Name: "x", Value: number(3)}})
 	for _, c := range []struct {
 		x    api.Expr
 		want string
-		n    int // locals
 	}{
-		{chain(100), "value #2, 100", 1}, {chain(101), "wrong 2, 0", 0}, {wide(4000), "value #2, 4000", 1}, {wide(4001), "wrong 2, 0", 0}, {row(4001), "wrong 2, 0", 0},
+		{chain(100), "value #2, 100"}, {chain(101), "wrong 2, 0"}, {wide(4000), "value #2, 4000"}, {wide(4001), "wrong 2, 0"}, {row(4001), "wrong 2, 0"},
 	} {
-		if o := meaning.Eval(made(t), 1, object(2), c.x, long, 10000); brief(o) != c.want || len(o.Locals) != c.n {
-			t.Errorf("it is %s with %d locals, not %s", brief(o), len(o.Locals), c.want)
+		for _, fuel := range []int{10000, 4000} {
+			if o := meaning.Eval(made(t), 1, object(2), c.x, l, fuel); brief(o) != c.want || told(o.Locals) != behind {
+				t.Errorf("it is %s with %s, not %s", brief(o), told(o.Locals), c.want)
+			}
 		}
+	}
+	if o := meaning.Eval(made(t), 1, object(2), chain(101), l, 0); brief(o) != "wrong 2, 0" || told(o.Locals) != behind {
+		t.Errorf("without fuel it is %s with %s", brief(o), told(o.Locals))
 	}
 }
 
