@@ -2,6 +2,7 @@ package meaning
 
 import (
 	"hackamore/api"
+	"hackamore/exprs"
 	"hackamore/num"
 )
 
@@ -11,47 +12,6 @@ type frame struct {
 	actor  int
 	this   api.Value
 	locals []Local
-}
-
-// shape is how many types an operation has, and how many kids; any number from least on, if most is below 0.
-type shape struct{ types, least, most int }
-
-var shapes = [api.OpLast + 1]shape{
-	api.OpLit:      {1, 0, 0},
-	api.OpLocal:    {0, 0, 0},
-	api.OpThis:     {0, 0, 0},
-	api.OpGet:      {0, 1, 1},
-	api.OpSet:      {0, 2, 2},
-	api.OpVar:      {1, 0, 1},
-	api.OpLet:      {1, 0, 1},
-	api.OpAssign:   {0, 1, 1},
-	api.OpConsume:  {0, 0, 0},
-	api.OpSeq:      {0, 0, -1},
-	api.OpIf:       {0, 3, 3},
-	api.OpWhile:    {0, 3, 3},
-	api.OpMatch:    {0, 1, -1},
-	api.OpCase:     {1, 2, 2},
-	api.OpTry:      {0, 3, 3},
-	api.OpError:    {0, 0, 0},
-	api.OpReturn:   {0, 0, 1},
-	api.OpBreak:    {0, 0, 0},
-	api.OpContinue: {0, 0, 0},
-	api.OpCall:     {0, 1, -1},
-	api.OpNew:      {1, 0, -1},
-	api.OpRecover:  {1, 1, 1},
-	api.OpTuple:    {0, 2, -1},
-	api.OpItem:     {0, 1, 1},
-	api.OpIs:       {0, 2, 2},
-	api.OpUnit:     {1, 0, 0},
-}
-
-// isShaped reports whether an expression is none of those without an operation, and has as many types and kids as its own has.
-func isShaped(x api.Expr) bool {
-	if x.Op <= 0 || x.Op > api.OpLast {
-		return false
-	}
-	s := shapes[x.Op]
-	return len(x.Types) == s.types && len(x.Kids) >= s.least && (s.most < 0 || len(x.Kids) <= s.most)
 }
 
 func none() api.Value { return unit("None") }
@@ -71,7 +31,7 @@ func orNone(v api.Value) api.Value {
 // eval evaluates an expression.
 func (f *frame) eval(x api.Expr) Outcome {
 	f.spend()
-	if !isShaped(x) {
+	if !exprs.IsShaped(x) {
 		return wrong(api.ErrForm)
 	}
 	switch x.Op {
@@ -171,7 +131,7 @@ func (f *frame) evalMatch(x api.Expr) Outcome {
 		return operand
 	}
 	for _, c := range x.Kids[1:] {
-		if c.Op != api.OpCase || !isShaped(c) {
+		if c.Op != api.OpCase || !exprs.IsShaped(c) {
 			return wrong(api.ErrForm)
 		}
 		if !f.Is(operand.Value, c.Types[0]) {

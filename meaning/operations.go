@@ -1,9 +1,8 @@
 package meaning
 
 import (
-	"strconv"
-
 	"hackamore/api"
+	"hackamore/exprs"
 	"hackamore/num"
 	"hackamore/world"
 )
@@ -164,22 +163,11 @@ func (f *frame) item(x api.Expr, l []api.Value) Outcome {
 	if l[0].Kind != api.ValTuple {
 		return wrong(api.ErrType)
 	}
-	n, ok := index(x.Text)
+	n, ok := exprs.Index(x.Text)
 	if !ok || n >= len(l[0].Kids) {
 		return wrong(api.ErrRange)
 	}
 	return valued(l[0].Kids[n])
-}
-
-// index returns the number that decimal digits tell, which may have any number of zeros in front.
-func index(digits string) (int, bool) {
-	for _, b := range []byte(digits) {
-		if b < '0' || b > '9' {
-			return 0, false
-		}
-	}
-	n, e := strconv.Atoi(digits)
-	return n, e == nil
 }
 
 func (f *frame) same(_ api.Expr, l []api.Value) Outcome { return valued(truth(world.Same(l[0], l[1]))) }

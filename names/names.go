@@ -6,6 +6,7 @@ import (
 	"slices"
 
 	"hackamore/api"
+	"hackamore/exprs"
 	"hackamore/parser"
 	"hackamore/sugar"
 )
@@ -101,7 +102,7 @@ func hasMain(p []api.Entity) bool {
 		return false
 	}
 	return slices.ContainsFunc(entity.Methods, func(m api.Method) bool {
-		return m.Kind == api.New && m.Name == "create" && len(m.Params) == 1 && equalTypes(m.Params[0].Type, env)
+		return m.Kind == api.New && m.Name == "create" && len(m.Params) == 1 && exprs.EqualType(m.Params[0].Type, env)
 	})
 }
 

@@ -1,4 +1,4 @@
-// Package sample makes well-formed syntax trees for tests: the same ones for the same seed.
+// Package sample makes well-formed syntax trees for tests: the same ones for the same seed. It has texts of programs, too.
 package sample
 
 import (
