@@ -18,6 +18,11 @@ const windingProgram = `
 	var n: U32 val
 	new tag create(n: U32 val) => (set.n this local.n)
 	be tag go(x: U32 val) => (set.n this local.x)
+	actor tag main.B is main.D ref
+	var n: U32 val
+	new tag create(n: U32 val) => (set.n this local.n)
+	trait ref main.D
+	be tag go(x: U32 val) => (set.n this (call.add local.x local.x))
 	actor tag main.Main
 	var r: (U32 val | None val)
 	var out: Out tag
@@ -149,7 +154,7 @@ func (d *winding) called(depth int) api.Expr {
 	case 2:
 		return of(api.OpCall, "get", typed(api.OpNew, "create", notation.Type("main.C ref"), d.number()))
 	case 3:
-		made := notation.Type(One(d.Maker, "main.C ref", "main.A tag"))
+		made := notation.Type(One(d.Maker, "main.C ref", "main.A tag", "main.B tag"))
 		return of(api.OpCall, "go", of(api.OpIf, "", d.truth(depth-1), typed(api.OpNew, "create", made, d.number()), notation.Expr("(new.create{main.A tag} lit.4{U32 val})")), d.number())
 	}
 	return of(api.OpCall, "say", of(api.OpThis, ""), of(api.OpCall, "add", d.number(), d.number()))

@@ -12,17 +12,17 @@ import (
 	"hackamore/values"
 )
 
-// Clone returns a function that may be changed in place.
+// Clone returns a function that shares no memory with this one, so that it may be changed in place.
 func Clone(f ssa.Func) ssa.Func {
+	f.Params, f.Result = exprs.CloneTypes(f.Params), exprs.CloneType(f.Result)
 	f.Blocks = slices.Clone(f.Blocks)
 	for b, x := range f.Blocks {
 		x.Ins = slices.Clone(x.Ins)
-		for at, i := range x.Ins {
-			x.Ins[at].Args = slices.Clone(i.Args)
-		}
 		x.End.Args, x.End.To = slices.Clone(x.End.Args), slices.Clone(x.End.To)
-		x.End.Call.Args = slices.Clone(x.End.Call.Args)
 		f.Blocks[b] = x
+	}
+	for i := range Instructions(f) {
+		i.Args, i.Type, i.Lit = slices.Clone(i.Args), exprs.CloneType(i.Type), values.Clone(i.Lit)
 	}
 	return f
 }

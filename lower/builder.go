@@ -108,7 +108,7 @@ func (b *builder) declare() {
 		note(p.Name, p.Type)
 	}
 	unset, assigned := map[string]bool{}, map[string]bool{}
-	for x := range exprs.Nodes(b.made.Body) {
+	for _, x := range exprs.Walk(b.made.Body) {
 		switch x.Op {
 		case api.OpVar, api.OpLet:
 			unset[x.Text] = unset[x.Text] || len(x.Kids) == 0

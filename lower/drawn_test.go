@@ -7,6 +7,7 @@ import (
 	"hackamore/draw"
 	"hackamore/lower"
 	"hackamore/meaning"
+	"hackamore/notation"
 	"hackamore/optimize"
 	"hackamore/ssa"
 	"hackamore/world"
@@ -89,7 +90,6 @@ func TestDrawn(t *testing.T) {
 			rests++
 		}
 	}
-	t.Log(rests)
 	if rests < 30 {
 		t.Errorf("%d runs rest", rests)
 	}
@@ -98,13 +98,59 @@ func TestDrawn(t *testing.T) {
 // TestWinding is P20.2 for drawn bodies that are left in many ways.
 func TestWinding(t *testing.T) {
 	rests := 0
-	for seed := range uint64(3000) {
+	for seed := range uint64(1500) {
 		if alike(t, draw.New(seed).Winding(), nil, nil, seed, optimize.Inline, optimize.Copies, optimize.Fold, optimize.Common, optimize.Dead) {
 			rests++
 		}
 	}
-	t.Log(rests)
-	if rests < 1000 {
+	if rests < 700 {
 		t.Errorf("%d runs rest", rests)
+	}
+}
+
+// TestWays is P20.2 for ways out of an OpTry, of loops and of bodies.
+func TestWays(t *testing.T) {
+	for _, body := range []string{
+		"(try (return lit.1{U32 val}) - (try (try (return lit.2{U32 val}) - error) - -))",
+		"(try (try (return lit.1{U32 val}) - (return lit.2{U32 val})) - (call.say this lit.3{U32 val}))",
+		"(seq (try error (return lit.1{U32 val}) (call.say this lit.3{U32 val})) lit.9{U32 val})",
+		"(seq (try (try error - (call.say this lit.3{U32 val})) lit.4{U32 val} -) lit.9{U32 val})",
+		"(while lit.true{Bool val} (try break - (call.say this lit.3{U32 val})) -)",
+		"(seq (var.k{U32 val} lit.0{U32 val}) (while (call.lt local.k lit.3{U32 val}) (seq (assign.k (call.add local.k lit.1{U32 val})) (try continue - (call.say this local.k))) lit.7{U32 val}))",
+		"(seq (var.k{U32 val} lit.0{U32 val}) (while (call.lt local.k lit.3{U32 val}) (seq (assign.k (call.add local.k lit.1{U32 val})) (try (return local.k) - continue)) lit.7{U32 val}))",
+		"(seq (var.k{U32 val} lit.0{U32 val}) (while (seq (assign.k (call.add local.k lit.1{U32 val})) (if (is local.k lit.2{U32 val}) continue -) (if (is local.k lit.5{U32 val}) break -) lit.true{Bool val}) (call.say this local.k) -))",
+		"(while lit.false{Bool val} lit.1{U32 val} (try (call.some this lit.8{U32 val}) lit.6{U32 val} -))",
+		"(while lit.false{Bool val} lit.1{U32 val} -)",
+		"(seq (var.k{U32 val}) (assign.k lit.1{U32 val}))",
+		"(seq (var.k{U32 val} lit.1{U32 val}) (consume.k) (assign.k lit.2{U32 val}))",
+		"(seq (assign.x lit.5{U32 val}) (assign.x (seq (consume.x) (assign.x lit.6{U32 val}) lit.7{U32 val})))",
+		"(seq (if lit.false{Bool val} (var.k{U32 val} lit.1{U32 val}) -) (var.k{U32 val} lit.2{U32 val}) local.k)",
+		"(seq (if lit.false{Bool val} local.none -) lit.2{U32 val})",
+		"(match local.x (case.v{U32 val} (is local.v lit.2{U32 val}) lit.8{U32 val}) (case.w{Any tag} - local.v))",
+		"(match local.x (case.v{None val} - lit.8{U32 val}))",
+		"(call.get (new.create{main.C ref} (try (call.some this lit.9{U32 val}) lit.5{U32 val} -)))",
+		"(try (call.get (new.create{main.C ref} lit.9{U32 val})) lit.5{U32 val} -)",
+		"(call.go (if (is local.x lit.1{U32 val}) (new.create{main.C ref} lit.2{U32 val}) (new.create{main.A tag} lit.3{U32 val})) lit.4{U32 val})",
+		"(call.go (if (is local.x lit.2{U32 val}) (new.create{main.C ref} lit.2{U32 val}) (new.create{main.A tag} lit.3{U32 val})) lit.4{U32 val})",
+		"(item.1 (tuple (seq (assign.x lit.7{U32 val}) local.x) (seq (call.say this local.x) local.y)))",
+		`(seq (let.l{Any tag} (new.create{"Array[main.C0 ref]" ref})) (call.push local.l lit.1{U32 val}) (call.say this (call.pop local.l)) (try (call.pop local.l) (call.size local.l) -))`,
+		"(new.create{U32 val} lit.4{U32 val})",
+		"(is (new.any{main.P val} lit.4{U32 val}) unit{main.P val})",
+		"(if lit.false{Bool val} (seq (new.none{main.C ref}) error) lit.4{U32 val})",
+		"(if lit.false{Bool val} (new.go{main.C ref} lit.4{U32 val}) (if lit.true{Bool val} lit.5{U32 val} (new.create{main.C ref})))",
+		"(if lit.false{Bool val} (new.create{main.D ref}) (if lit.true{Bool val} lit.5{U32 val} (new.create{main.Nobody ref})))",
+		"(seq (new.create{main.B tag} lit.4{U32 val}) (call.go (new.create{main.B tag} lit.4{U32 val}) lit.5{U32 val}))",
+		"(try (try error - error) (try lit.3{U32 val} - (return lit.4{U32 val})) (call.say this lit.5{U32 val}))",
+	} {
+		p := draw.New(1).Winding()
+		main := &p[len(p)-1]
+		for i := range main.Methods {
+			if main.Methods[i].Name == "wind" {
+				main.Methods[i].Body = notation.Expr(body)
+			}
+		}
+		if !alike(t, p, nil, nil, body, optimize.Inline, optimize.Copies, optimize.Fold, optimize.Common, optimize.Dead) {
+			t.Errorf("%s: the run does not rest", body)
+		}
 	}
 }

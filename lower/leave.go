@@ -105,17 +105,21 @@ func (b *builder) perform(i ssa.Ins, raises bool) int {
 	return i.Result
 }
 
-// try lowers an OpTry: what it does behind all else stands there once, and goes on by the way that led there.
+// try lowers an OpTry: what it does behind all else stands there once, and goes on by the way that led there. What is returned is
+// kept meanwhile, since something else may be returned, and caught, within.
 func (b *builder) try(x api.Expr, want bool) int {
 	result := b.temp()
 	if x.Kids[2].Op == 0 {
 		b.caught(x, result, want)
 		return b.resultOf(result, want)
 	}
-	way, then, ways := b.temp(), &label{}, []int{}
+	way, kept, then, ways := b.temp(), b.temp(), &label{}, []int{}
 	leave := func(by int) bool {
 		if b.live {
 			ways = with(ways, by)
+			if by == byReturn {
+				b.store(kept, b.load(b.back))
+			}
 			b.store(way, b.number(by))
 			b.jump(then)
 		}
@@ -128,7 +132,19 @@ func (b *builder) try(x api.Expr, want bool) int {
 	})
 	b.bind(then)
 	b.eval(x.Kids[2], false)
-	return b.goOn(way, ways, result, want)
+	on := &label{}
+	b.goOn(way, ways, func(by int) {
+		switch by {
+		case normally:
+			b.jump(on)
+			return
+		case byReturn:
+			b.store(b.back, b.load(kept))
+		}
+		b.leave(by)
+	})
+	b.bind(on)
+	return b.resultOf(result, want)
 }
 
 // with returns a list with a number in it, once.
@@ -147,9 +163,8 @@ func (b *builder) number(n int) int {
 	return b.constant(v, named("U8", api.Val))
 }
 
-// goOn goes on by the way that a variable tells, which is one of some; it returns the result of what has a value.
-func (b *builder) goOn(way string, ways []int, result string, want bool) int {
-	on := &label{}
+// goOn goes on by the way that a variable tells, which is one of some.
+func (b *builder) goOn(way string, ways []int, leave func(by int)) {
 	for k, by := range ways {
 		next := &label{}
 		if k < len(ways)-1 {
@@ -158,15 +173,9 @@ func (b *builder) goOn(way string, ways []int, result string, want bool) int {
 			b.branch(is, this, next)
 			b.bind(this)
 		}
-		if by == normally {
-			b.jump(on)
-		} else {
-			b.leave(by)
-		}
+		leave(by)
 		b.bind(next)
 	}
-	b.bind(on)
-	return b.resultOf(result, want)
 }
 
 // resultOf returns the value of a variable with a result, if anybody wants it.

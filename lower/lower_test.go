@@ -124,6 +124,11 @@ func TestForms(t *testing.T) {
 			t.Errorf("%s: its function has the error %d", body, wrong)
 		}
 	}
+	odd := notation.Expr("(if this this -)") // what has the Op 0 is none, whatever else it has
+	odd.Kids[2].Kids = []api.Expr{{Op: api.OpVar}, {Op: 99}}
+	if _, e := lower.Method(bodied(odd), "main.C", "m"); e != api.OK {
+		t.Errorf("an else that is none: error %d", e)
+	}
 	for _, op := range []int{-1, 0, 27} {
 		if _, e := lower.Method(bodied(api.Expr{Op: api.OpSeq, Kids: []api.Expr{{Op: op}}}), "main.C", "m"); e != lower.ErrLower {
 			t.Errorf("the operation %d: error %d", op, e)

@@ -43,7 +43,7 @@ func open(f ssa.Func) []string {
 		queue = queue[:len(queue)-1]
 		for _, a := range preds[b] {
 			ahead := len(read[a])
-			for name := range read[b] {
+			for _, name := range slices.Sorted(maps.Keys(read[b])) {
 				if !stored[a][name] {
 					read[a][name] = true
 				}

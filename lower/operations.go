@@ -101,7 +101,7 @@ func (a *activation) call(i ssa.Ins, l []api.Value) api.Value {
 // calls performs a call, a direct or a native, and reports whether it raised an error.
 func (a *activation) calls(i ssa.Ins, l []api.Value) (api.Value, bool) {
 	if i.Op == ssa.Direct {
-		f := a.funcs[i.Text]
+		f := a.runner.function(i.Text)
 		if f == nil {
 			fail(world.ErrMethod)
 		}

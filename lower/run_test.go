@@ -291,6 +291,23 @@ func TestDepth(t *testing.T) {
 	}
 }
 
+// TestLimits is P20.1 for limits of the world: they end a run as fuel does.
+func TestLimits(t *testing.T) {
+	p := notation.Program(text)
+	grow := functions(blocks(
+		ssa.Block{End: ssa.End{Kind: ssa.Jump, To: []int{1}}},
+		ssa.Block{Ins: []ssa.Ins{ins(ssa.Make, "main.C")}, End: ssa.End{Kind: ssa.Jump, To: []int{1}}}))
+	if s, end := lower.Run(grow, p, nil, nil, api.MaxFuel); end != (meaning.End{Kind: meaning.Fuel, Actor: 1, Code: api.ErrFull}) || len(s.Cells) != api.MaxCells {
+		t.Errorf("with too many objects it ends by %v", end)
+	}
+	double := functions(blocks(
+		ssa.Block{Ins: []ssa.Ins{ins(ssa.Text, "ab")}, End: ssa.End{Kind: ssa.Jump, To: []int{1}}},
+		ssa.Block{Ins: []ssa.Ins{{Op: ssa.Phi, Args: []int{2, 4}}, ins(ssa.Call, "add", 3, 3)}, End: ssa.End{Kind: ssa.Jump, To: []int{1}}}))
+	if _, end := lower.Run(double, p, nil, nil, api.MaxFuel); end != (meaning.End{Kind: meaning.Fuel, Actor: 1, Code: api.ErrLarge}) {
+		t.Errorf("with too long a text it ends by %v", end)
+	}
+}
+
 // TestRuns is P20.1 for the ends of Run and Step that no function has.
 func TestRuns(t *testing.T) {
 	p := notation.Program(text)

@@ -18,7 +18,8 @@ type function struct {
 // runner is what the activations of one run share.
 type runner struct {
 	*world.World
-	funcs      map[string]*function
+	funcs      map[string]ssa.Func
+	ready      map[string]*function // those that were run
 	fuel, used int
 	depth      int // in how many functions one is run
 	actor      int
@@ -39,15 +40,25 @@ func newRunner(f ssa.Program, w *world.World, fuel int) (*runner, bool) {
 	}
 	r := &runner{
 		World:      w,
-		funcs:      map[string]*function{},
+		funcs:      map[string]ssa.Func{},
+		ready:      map[string]*function{},
 		fuel:       max(0, min(fuel, api.MaxFuel)),
 		methods:    map[key]found{},
 		operations: operations(),
 	}
 	for _, x := range f.Funcs {
-		r.funcs[x.Name] = newFunction(x)
+		r.funcs[x.Name] = x
 	}
 	return r, true
+}
+
+// function returns the function with a name, or nil.
+func (r *runner) function(name string) *function {
+	f, ok := r.funcs[name]
+	if ok && r.ready[name] == nil {
+		r.ready[name] = newFunction(f)
+	}
+	return r.ready[name]
 }
 
 // newFunction returns a function whose values are numbered in order, so that an activation needs no more room than it has.
@@ -152,7 +163,7 @@ func (r *runner) callOf(receiver api.Value, name string, args []api.Value) (api.
 	if typ == "" {
 		fail(api.ErrType)
 	}
-	if f := r.funcs[typ+"."+name]; f != nil {
+	if f := r.function(typ + "." + name); f != nil {
 		return r.run(f, append([]api.Value{receiver}, args...))
 	}
 	return r.native(receiver, name, args)

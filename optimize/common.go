@@ -7,10 +7,12 @@ import (
 	"hackamore/ssa"
 )
 
-// likeness is what instructions have in common that may be alike: their operation, the block of a phi, their first Args, and so on.
+// likeness is what instructions have in common that may be alike: their operation, the block of a phi, their first Args, the bits of
+// a literal, and so on.
 type likeness struct {
 	op, block, n, count int
 	args                [3]int
+	bits                [2]uint64
 	text                string
 }
 
@@ -74,7 +76,7 @@ func (m *meeting) meet(i *ssa.Ins, block int) {
 	for k, v := range i.Args {
 		i.Args[k] = m.now(v)
 	}
-	key := likeness{op: i.Op, n: i.N, count: len(i.Args), text: i.Text}
+	key := likeness{op: i.Op, n: i.N, count: len(i.Args), bits: [2]uint64{i.Lit.Lo, i.Lit.Hi}, text: i.Text}
 	copy(key.args[:], i.Args)
 	if i.Op == ssa.Phi {
 		key.block = block

@@ -92,7 +92,7 @@ func numbering(f Func) (map[int]int, int) {
 	return numbers, len(numbers)
 }
 
-// renamed returns a function with other numbers for its values.
+// renamed returns a function with other numbers for its values. It shares no memory with that one.
 func renamed(f Func, number func(v int) int) Func {
 	all := func(l []int) []int {
 		out := make([]int, len(l))
@@ -105,16 +105,25 @@ func renamed(f Func, number func(v int) int) Func {
 	for b, x := range f.Blocks {
 		x.Ins = slices.Clone(x.Ins)
 		for at, i := range x.Ins {
+			x.Ins[at] = own(i)
 			x.Ins[at].Result, x.Ins[at].Args = number(i.Result), all(i.Args)
 		}
-		x.End.Args = all(x.End.Args)
+		x.End.Args, x.End.To = all(x.End.Args), slices.Clone(x.End.To)
 		if x.End.Kind == Try {
-			x.End.Call.Result, x.End.Call.Args = number(x.End.Call.Result), all(x.End.Call.Args)
+			c := own(x.End.Call)
+			c.Result, c.Args = number(c.Result), all(c.Args)
+			x.End.Call = c
 		}
 		blocks[b] = x
 	}
-	f.Blocks = blocks
+	f.Blocks, f.Params, f.Result = blocks, exprs.CloneTypes(f.Params), exprs.CloneType(f.Result)
 	return f
+}
+
+// own returns an instruction whose type and literal are its own.
+func own(i Ins) Ins {
+	i.Type, i.Lit = exprs.CloneType(i.Type), values.Clone(i.Lit)
+	return i
 }
 
 // Equal reports whether two functions are equal but for the numbers of their values.

@@ -3,7 +3,6 @@ package ssa
 import (
 	"iter"
 	"math/bits"
-	"slices"
 	"strings"
 
 	"hackamore/api"
@@ -82,8 +81,8 @@ type noForm struct{}
 
 // inner reads an instruction of a block, or its end.
 func (p *parser) inner(x *Block, words []string) {
-	kind := slices.IndexFunc(endings[:], func(o ending) bool { return o.name != "" && o.name == words[0] })
-	if kind < 0 {
+	kind := endOf(words[0])
+	if kind == 0 {
 		x.Ins = append(x.Ins, readIns(words))
 		return
 	}
@@ -101,6 +100,26 @@ func (p *parser) inner(x *Block, words []string) {
 	p.open = false
 }
 
+// endOf returns the kind of end with a name, 0 for none.
+func endOf(name string) int {
+	for kind, o := range endings {
+		if kind > 0 && o.name == name {
+			return kind
+		}
+	}
+	return 0
+}
+
+// opOf returns the operation with a name, 0 for none.
+func opOf(name string) int {
+	for op, o := range operations {
+		if op > 0 && o.name == name {
+			return op
+		}
+	}
+	return 0
+}
+
 func readFunc(words []string) Func {
 	if len(words) < 3 {
 		panic(noForm{})
@@ -116,8 +135,8 @@ func readFunc(words []string) Func {
 const insCount = 9
 
 func readIns(words []string) Ins {
-	op := slices.IndexFunc(operations[:], func(o operation) bool { return o.name != "" && o.name == words[0] })
-	if op < 0 || len(words) != insCount {
+	op := opOf(words[0])
+	if op == 0 || len(words) != insCount {
 		panic(noForm{})
 	}
 	return Ins{
