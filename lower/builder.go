@@ -90,10 +90,14 @@ func (b *builder) function(entity string) ssa.Func {
 	return f
 }
 
+// isNone reports whether the function has None, whatever the body does.
+func (b *builder) isNone() bool {
+	return b.made.Result.Kind == api.TypeName && b.made.Result.Name == "None"
+}
+
 // isWanted reports whether anybody gets the value of the body.
 func (b *builder) isWanted() bool {
-	isNone := b.made.Result.Kind == api.TypeName && b.made.Result.Name == "None"
-	return b.made.Kind != api.New && b.made.Kind != api.Be && !isNone
+	return b.made.Kind != api.New && b.made.Kind != api.Be && !b.isNone()
 }
 
 // declare finds the types of the local variables. One that may have no value when it is assigned has None as its old one.

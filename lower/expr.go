@@ -33,7 +33,7 @@ func (b *builder) eval(x api.Expr, want bool) int {
 		b.leave(byContinue)
 		return none
 	case api.OpReturn:
-		b.giveBack(b.last(x, b.isWanted()))
+		b.giveBack(b.last(x, !b.isNone()))
 		return none
 	case api.OpRecover:
 		return b.eval(x.Kids[0], want)

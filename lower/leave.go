@@ -46,7 +46,7 @@ func (b *builder) leave(way int) {
 
 // giveBack returns a value.
 func (b *builder) giveBack(v int) {
-	if !b.isWanted() {
+	if b.isNone() {
 		v = none
 	}
 	for _, s := range b.around {

@@ -8,6 +8,7 @@ import (
 	"hackamore/api"
 	"hackamore/lower"
 	"hackamore/notation"
+	"hackamore/play"
 	"hackamore/ssa"
 	"hackamore/world"
 )
@@ -299,14 +300,32 @@ func TestErrors(t *testing.T) {
 	}
 }
 
-// TestExample is the chapter's: the function of a body that returns a parameter.
+// TestExample is the chapter's: the function of a body that returns a parameter. Where the result is None the function has that.
 func TestExample(t *testing.T) {
-	f, e := lower.Method(with("(return local.x)"), "main.C", "m")
-	if e != api.OK {
-		t.Fatalf("error %d", e)
+	for _, kind := range []int{api.New, api.Fun, api.Be} {
+		p := with("(return local.x)")
+		p[len(p)-1].Methods[0].Kind = kind
+		f, e := lower.Method(p, "main.C", "m")
+		if e != api.OK {
+			t.Fatalf("error %d", e)
+		}
+		f, e = ssa.Promote(f)
+		if want := []ssa.Block{{End: ssa.End{Kind: ssa.Return, Args: []int{1}}}}; e != api.OK || told(f.Blocks) != told(want) {
+			t.Errorf("error %d: %v", e, f.Blocks)
+		}
 	}
-	f, e = ssa.Promote(f)
-	if want := []ssa.Block{{End: ssa.End{Kind: ssa.Return, Args: []int{1}}}}; e != api.OK || told(f.Blocks) != told(want) {
-		t.Errorf("error %d: %v", e, f.Blocks)
+	for _, body := range []string{"(return local.x)", "local.x", "(try (return local.x) - local.x)"} {
+		p := with(body)
+		p[len(p)-1].Methods[0].Result = notation.Type("None tag")
+		f, e := lower.Method(p, "main.C", "m")
+		for _, x := range f.Blocks {
+			if x.End.Kind != ssa.Return {
+				continue
+			}
+			l := ssa.Program{Funcs: []ssa.Func{f}}
+			if r := play.Run(l, 0, []api.Value{{Kind: api.ValBool}, {Kind: api.ValBool}}, 100); e != api.OK || r.End != "value 4:0" {
+				t.Errorf("%s: error %d: %v", body, e, r)
+			}
+		}
 	}
 }

@@ -308,6 +308,29 @@ func TestLimits(t *testing.T) {
 	}
 }
 
+// TestGreat has values with more parts than anybody can count: they come to an end, as all else.
+func TestGreat(t *testing.T) {
+	for name, c := range map[string]struct {
+		last ssa.Ins
+		want string
+	}{
+		"is":   {ins(ssa.Is, "", 302, 303), "rest true"},
+		"set":  {ins(ssa.Set, "root", 1, 302), "stuck 190"},
+		"fits": {ssa.Ins{Op: ssa.Fits, Type: notation.Type("(U8 val, U8 val)"), Args: []int{302}}, "rest false"},
+		"send": {ins(ssa.Send, "x", 0, 302), "stuck 190"},
+		"call": {ins(ssa.Call, "x", 302), "stuck 11"},
+	} {
+		l := []ssa.Ins{lit(number(1)), lit(number(1))}
+		for i := range 300 {
+			l = append(l, ins(ssa.Tuple, "", 2+i, 2+i))
+		}
+		l = append(l, c.last, ins(ssa.Set, "root", 1, 304))
+		if got, _ := outcome(t, body("main.Main.create", 2, back(1), l...), 1000); got != c.want {
+			t.Errorf("%s: %s, want %s", name, got, c.want)
+		}
+	}
+}
+
 // TestRuns is P20.1 for the ends of Run and Step that no function has.
 func TestRuns(t *testing.T) {
 	p := notation.Program(text)

@@ -101,7 +101,7 @@ func truth(n uint64) api.Value { return api.Value{Kind: api.ValBool, Lo: n} }
 // step returns a step in the first function.
 func step(kind, a, b int) optimize.Step { return optimize.Step{Kind: kind, A: a, B: b} }
 
-// case is a program, a step, and the program behind it; no text, if the step may not be done.
+// rule is a program, a step, and the program behind it; no text, if the step may not be done.
 type rule struct {
 	name string
 	from string
